@@ -1,0 +1,1 @@
+"""SUMSPLAY: games of two side by side."""
