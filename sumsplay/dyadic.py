@@ -1,6 +1,7 @@
 """Dyadic numbers: exact numbers top / 2 ** power, and the simplest one between two bounds."""
 
 from sumsplay.errors import BadText, BadValue
+from sumsplay.whole import is_whole
 
 MOST_TOP = 1000000000000
 MOST_POWER = 40
@@ -13,9 +14,9 @@ class Dyadic:
 
     def __init__(self, top, power=0):
         # The messages do not show what was passed, as Python does not write out very great integers.
-        if not _is_whole(top, -MOST_TOP, MOST_TOP):
+        if not is_whole(top, -MOST_TOP, MOST_TOP):
             raise BadValue("the top is not an integer from -10 ** 12 to 10 ** 12")
-        if not _is_whole(power, 0, MOST_POWER):
+        if not is_whole(power, 0, MOST_POWER):
             raise BadValue("the power is not an integer from 0 to 40")
         self._top, self._power = _plain(top, power)
 
@@ -31,14 +32,14 @@ class Dyadic:
 
     def __add__(self, other):
         top = (self._top << other.power) + (other.top << self._power)
-        return _exact(top, self._power + other.power)
+        return exact(top, self._power + other.power)
 
     def __sub__(self, other):
         top = (self._top << other.power) - (other.top << self._power)
-        return _exact(top, self._power + other.power)
+        return exact(top, self._power + other.power)
 
     def __neg__(self):
-        return _exact(-self._top, self._power)
+        return exact(-self._top, self._power)
 
     def less(self, other):
         """Whether the number is less than the other one."""
@@ -50,7 +51,7 @@ class Dyadic:
 
     def half(self):
         """Half of the number."""
-        return _exact(self._top, self._power + 1)
+        return exact(self._top, self._power + 1)
 
     def text(self):
         """The text of the number (point 1.3)."""
@@ -99,15 +100,10 @@ def _simplest_above(low, high):
     power = 0
     # The first number above the low bound with the least power is the only one, or the least integer.
     while True:
-        number = _exact((low.top << power >> low.power) + 1, power)
+        number = exact((low.top << power >> low.power) + 1, power)
         if high is None or number.less(high):
             return number
         power = power + 1
-
-
-def _is_whole(thing, least, most):
-    """Whether any Python object is an integer within bounds; True and False are none."""
-    return type(thing) is int and least <= thing <= most
 
 
 def _plain(top, power):
@@ -118,7 +114,7 @@ def _plain(top, power):
     return top, power
 
 
-def _exact(top, power):
+def exact(top, power):
     """The dyadic of a result: only its plain form, not what it is made of, has to be within the bounds."""
     number = Dyadic(0)
     plain_top, plain_power = _plain(top, power)
@@ -133,7 +129,7 @@ def _read_top(text):
     if len(text) > LONGEST_TOP or not _are_digits(digits):
         return None
     top = int(text)
-    return top if _is_whole(top, -MOST_TOP, MOST_TOP) else None
+    return top if is_whole(top, -MOST_TOP, MOST_TOP) else None
 
 
 def _are_digits(text):

@@ -1,5 +1,6 @@
 """Who wins games, and the order of games."""
 
+from sumsplay.sides import other_side
 from sumsplay.simple import SimpleForms
 from sumsplay.wins import Wins
 
@@ -10,12 +11,17 @@ class Order:
     def __init__(self, yard):
         self._yard = yard
         self._wins = Wins(yard)
-        self._forms = SimpleForms(yard)
+        self._simple = SimpleForms(yard)
 
     @property
     def yard(self):
         """The yard whose games are ordered."""
         return self._yard
+
+    @property
+    def simple(self):
+        """The SimpleForms object by which the games are ordered."""
+        return self._simple
 
     def at_least(self, one, other):
         """Whether the first game is at least the second one (point 3.3)."""
@@ -24,7 +30,7 @@ class Order:
         self._wins.catch_up()
         told = self._wins.told(one, other)
         if told is None:
-            told = self._forms.at_least(one, other)
+            told = self._simple.at_least(one, other)
         return told
 
     def at_most(self, one, other):
@@ -51,8 +57,8 @@ class Order:
 
     def winning(self, game, side):
         """The options of this side that the other side, when it is to move there, does not win, ascending."""
-        other_side = "right" if side == "left" else "left"
-        return [option for option in self._yard.options(game, side) if not self.can_win(option, other_side)]
+        foe = other_side(side)
+        return [option for option in self._yard.options(game, side) if not self.can_win(option, foe)]
 
     def outcome(self, game):
         """The outcome of the game (point 3.2)."""

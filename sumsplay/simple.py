@@ -1,6 +1,8 @@
 """The simplest forms by which games are ordered."""
 
 from sumsplay.pairs import Pairs
+from sumsplay.ranks import Ranks
+from sumsplay.sides import other_side
 from sumsplay.yard import Yard
 
 
@@ -16,29 +18,38 @@ class SimpleForms:
         self._own = Yard()
         self._pairs = Pairs(self._own)
         self._pairs.catch_up()
+        self._ranks = Ranks(self._pairs)
         # From a game of the yard to its simplest form, and from games of the own yard to theirs.
         self._forms = {0: 0}
         self._own_forms = {0: 0}
 
+    @property
+    def own(self):
+        """The yard in which the simplest forms stand."""
+        return self._own
+
     def at_least(self, one, other):
         """Whether one game is at least another one."""
-        return self._pairs.at_least(self._form(one), self._form(other))
+        return self._pairs.at_least(self.form(one), self.form(other))
 
-    def _form(self, game):
+    def form(self, game):
         """The simplest form of a game, in the own yard."""
         waiting = self._yard.reached(game, self._forms)
         for follower in waiting:
             lefts = [self._forms[option] for option in self._yard.lefts(follower)]
             rights = [self._forms[option] for option in self._yard.rights(follower)]
-            self._forms[follower] = self._reduced(sorted(set(lefts)), sorted(set(rights)))
+            self._forms[follower] = self.reduced(lefts, rights)
         return self._forms[game]
 
-    def _reduced(self, lefts, rights):
+    def reduced(self, lefts, rights):
         """The simplest form of the game of the own yard with these options, which are simplest themselves."""
+        lefts, rights = sorted(set(lefts)), sorted(set(rights))
+        # Others keep games in the own yard, too.
+        self._pairs.catch_up()
         passed = []
         while True:
-            lefts = self._best(lefts, "left")
-            rights = self._best(rights, "right")
+            lefts = self.best(lefts, "left")
+            rights = self.best(rights, "right")
             game = self._own.game(lefts, rights)
             self._pairs.catch_up()
             passed.append(game)
@@ -55,20 +66,16 @@ class SimpleForms:
             self._own_forms[game] = form
         return form
 
-    def _best(self, options, side):
-        """The options of a side but those that another one is at least as good as, ascending."""
-        best = []
-        for option in options:
-            if not self._is_matched(option, best, side):
-                best = [other for other in best if not self._as_good(option, other, side)]
-                best.append(option)
-        return sorted(best)
+    def best(self, options, side):
+        """The options of a side but those that another one is at least as good as, ascending.
 
-    def _is_matched(self, option, others, side):
-        for other in others:
-            if self._as_good(other, option, side):
-                return True
-        return False
+        The options are unlike simplest forms of the own yard, ascending.
+        """
+        return self._ranks.best(options, side)
+
+    def as_good(self, one, other, side):
+        """Whether one game of the own yard is at least as good for a side as another one (point 4.1)."""
+        return self._ranks.as_good(one, other, side)
 
     def _led_back(self, game, options, side):
         """The options of a side of a game, with steps back taken where they are allowed (point 4.4)."""
@@ -83,14 +90,8 @@ class SimpleForms:
 
     def _answer(self, game, option, side):
         """An answer to an option of a side that allows a step back, or None."""
-        other_side = "right" if side == "left" else "left"
-        for answer in self._own.options(option, other_side):
-            if self._as_good(answer, game, other_side):
+        foe = other_side(side)
+        for answer in self._own.options(option, foe):
+            if self.as_good(answer, game, foe):
                 return answer
         return None
-
-    def _as_good(self, one, other, side):
-        """Whether one game is at least as good for a side as another one (point 4.1)."""
-        if side == "left":
-            return self._pairs.at_least(one, other)
-        return self._pairs.at_least(other, one)
