@@ -65,6 +65,146 @@ True
 >>> order.winning(switch, "right") == [yard.turned(one)]
 True
 ''',
+    "forms": '''
+>>> from sumsplay.forms import Forms
+>>> from sumsplay.order import Order
+>>> from sumsplay.yard import Yard
+>>> yard = Yard()
+>>> forms = Forms(Order(yard))
+>>> one = yard.game([0], [])
+>>> star = yard.game([0], [0])
+>>> game = yard.game([0, one], [])
+>>> forms.steps(game)
+[('drop', 'left', 0)]
+>>> forms.taken(game, ("drop", "left", 0)) == yard.game([one], [])
+True
+>>> forms.taken(game, ("drop", "left", one))
+raises NoMove
+>>> other = yard.game([star], [])
+>>> forms.steps(other) == [("back", "left", star, 0)]
+True
+>>> forms.simplest(other)
+0
+>>> (forms.is_simplest(star), forms.is_simplest(other))
+(True, False)
+''',
+    "sums": '''
+>>> from sumsplay.forms import Forms
+>>> from sumsplay.order import Order
+>>> from sumsplay.sums import Sums
+>>> from sumsplay.yard import Yard
+>>> yard = Yard()
+>>> sums = Sums(Forms(Order(yard)))
+>>> one = yard.game([0], [])
+>>> star = yard.game([0], [0])
+>>> sums.plus(one, star) == yard.game([star, one], [one])
+True
+>>> sums.plus(star, star) == yard.game([star], [star])
+True
+>>> sums.plain([star, one, star]) == one
+True
+>>> sums.total([])
+0
+>>> sums.copies(one, -1) == yard.game([], [0])
+True
+>>> sums.copies(one, 65)
+raises BadValue
+>>> sums.company(sums.plus(star, star), 0) is None
+True
+>>> sums.company(star, one) is None
+False
+''',
+    "values": '''
+>>> from sumsplay.dyadic import Dyadic
+>>> from sumsplay.forms import Forms
+>>> from sumsplay.order import Order
+>>> from sumsplay.sums import Sums
+>>> from sumsplay.values import Values
+>>> from sumsplay.yard import Yard
+>>> yard = Yard()
+>>> values = Values(Sums(Forms(Order(yard))))
+>>> one = values.number(Dyadic(1))
+>>> half = values.number(Dyadic(1, 1))
+>>> half == yard.game([0], [one])
+True
+>>> values.number_of(yard.game([half], [])).text()
+'1'
+>>> values.number_of(yard.game([one], [half])) is None
+True
+>>> values.heap_of(values.sums.plus(values.heap(6), values.heap(3)))
+5
+>>> switch = yard.game([values.number(Dyadic(5, 1))], [values.number(Dyadic(-1))])
+>>> (values.left_stop(switch).text(), values.right_stop(switch).text())
+('5/2', '-1')
+>>> (values.is_small(values.up(3, 1)), values.is_small(switch))
+(True, False)
+>>> values.number(Dyadic(129, 1))
+raises BadValue
+''',
+    "walls": '''
+>>> from sumsplay.dyadic import Dyadic
+>>> from sumsplay.walls import Wall, highest
+>>> wall = Wall([(Dyadic(0), Dyadic(3)), (Dyadic(1), Dyadic(2)), (Dyadic(2), Dyadic(1))], 0)
+>>> [(heat.text(), place.text()) for heat, place in wall.points()]
+[('0', '3'), ('2', '1')]
+>>> (wall.at(Dyadic(5, 2)).text(), wall.at(Dyadic(9)).text(), wall.slope_at(Dyadic(2)))
+('7/4', '1', 0)
+>>> top = highest([wall, Wall([(Dyadic(0), Dyadic(2))], 1)])
+>>> [(heat.text(), place.text()) for heat, place in top.points()]
+[('0', '3'), ('1/2', '5/2')]
+>>> top.slope
+1
+>>> Wall([(Dyadic(1), Dyadic(0))], 0)
+raises BadValue
+''',
+    "heat": '''
+>>> from sumsplay.dyadic import Dyadic
+>>> from sumsplay.forms import Forms
+>>> from sumsplay.heat import Heat
+>>> from sumsplay.order import Order
+>>> from sumsplay.sums import Sums
+>>> from sumsplay.values import Values
+>>> from sumsplay.yard import Yard
+>>> yard = Yard()
+>>> heat = Heat(Values(Sums(Forms(Order(yard)))))
+>>> one = yard.game([0], [])
+>>> two = yard.game([one], [])
+>>> threat = yard.game([0], [yard.turned(yard.game([yard.game([two], [])], []))])
+>>> (heat.mean(threat).text(), heat.heat(threat).text())
+('-2', '2')
+>>> game = yard.game([two], [threat])
+>>> [[(warm.text(), place.text()) for warm, place in wall.points()] for wall in heat.walls(game)]
+[[('0', '2'), ('2', '0')], [('0', '0')]]
+>>> (heat.mean(game).text(), heat.heat(game).text(), heat.heat(two) is None)
+('0', '2', True)
+>>> heat.cooled(game, Dyadic(1)) == yard.game([one], [yard.game([0], [yard.turned(two)])])
+True
+>>> heat.cooled(game, Dyadic(5, 1))
+0
+''',
+    "heaps": '''
+>>> from sumsplay.heaps import Heaps
+>>> board = Heaps([2, 0, 1])
+>>> [other.value() for other in board.moves("right")]
+[('heaps', (1, 0, 1)), ('heaps', (0, 0, 1)), ('heaps', (2, 0, 0))]
+>>> [part.value() for part in board.parts()]
+[('heaps', (2,)), ('heaps', (1,))]
+''',
+    "hedge": '''
+>>> from sumsplay.hedge import Hedge
+>>> board = Hedge([(0, 1, "blue"), (1, 2, "red"), (3, 4, "green"), (0, 0, "red")])
+>>> [other.value() for other in board.moves("right")]
+[('hedge', ((0, 1, 'blue'), (0, 0, 'red'))), ('hedge', ((0, 1, 'blue'), (1, 2, 'red')))]
+>>> [part.value() for part in board.parts()]
+[('hedge', ((0, 1, 'blue'), (1, 2, 'red'))), ('hedge', ((0, 0, 'red'),))]
+''',
+    "floor": '''
+>>> from sumsplay.floor import Floor
+>>> [other.value() for other in Floor(["..#", ".#."]).moves("left")]
+[('floor', ('#.#', '##.'))]
+>>> [part.value() for part in Floor(["..#.", ".###", "#..#"]).parts()]
+[('floor', ('..', '.#')), ('floor', ('..',))]
+''',
 }
 
 # Class by class, the methods and their arguments. Properties are listed apart.
@@ -82,8 +222,38 @@ CLASSES = {
         "less": ["one", "other"], "apart": ["one", "other"], "can_win": ["game", "side"],
         "winning": ["game", "side"], "outcome": ["game"],
     },
+    ("forms", "Forms"): {
+        "__init__": ["order"], "steps": ["game"], "taken": ["game", "step"], "simplest": ["game"],
+        "is_simplest": ["game"],
+    },
+    ("sums", "Sums"): {
+        "__init__": ["forms"], "plus": ["one", "other"], "total": ["games"], "minus": ["one", "other"],
+        "copies": ["game", "count"], "plain": ["games"], "company": ["one", "other"],
+    },
+    ("values", "Values"): {
+        "__init__": ["sums"], "number": ["dyadic"], "number_of": ["game"], "heap": ["size"], "heap_of": ["game"],
+        "up": ["count", "size"], "left_stop": ["game"], "right_stop": ["game"], "is_small": ["game"],
+    },
+    ("walls", "Wall"): {
+        "__init__": ["points", "slope"], "points": [], "at": ["heat"], "slope_at": ["heat"], "tilted": ["slope"],
+        "turned": [], "cut": ["heat"],
+    },
+    ("heat", "Heat"): {
+        "__init__": ["worth"], "walls": ["game"], "heat": ["game"], "mean": ["game"], "cooled": ["game", "heat"],
+    },
+    ("heaps", "Heaps"): {"__init__": ["sizes"], "moves": ["side"], "value": [], "parts": []},
+    ("hedge", "Hedge"): {"__init__": ["edges"], "moves": ["side"], "value": [], "parts": []},
+    ("floor", "Floor"): {"__init__": ["rows"], "moves": ["side"], "value": [], "parts": []},
 }
-PROPERTIES = {("dyadic", "Dyadic"): ["top", "power"], ("yard", "Yard"): ["size"], ("order", "Order"): ["yard"]}
+PROPERTIES = {
+    ("dyadic", "Dyadic"): ["top", "power"], ("yard", "Yard"): ["size"], ("order", "Order"): ["yard"],
+    ("forms", "Forms"): ["yard"], ("sums", "Sums"): ["yard"], ("values", "Values"): ["forms", "yard"],
+    ("walls", "Wall"): ["slope"],
+}
+# The functions of the interface, each with its file and its arguments.
+FUNCTIONS = {
+    ("dyadic", "simplest_between"): ["low", "high"], ("walls", "highest"): ["walls"], ("walls", "lowest"): ["walls"],
+}
 ERRORS = ("PlayError", "BadValue", "BadText", "Unknown", "NoMove")
 
 
@@ -114,14 +284,15 @@ class ExamplesTest(unittest.TestCase):
             else:
                 self.assertEqual(repr(eval(line, names)), told, line)
 
-    def test_the_examples_of_dyadic(self):
-        self.run_examples("dyadic")
+    def test_the_examples(self):
+        for name in EXAMPLES:
+            with self.subTest(name):
+                self.run_examples(name)
 
-    def test_the_examples_of_yard(self):
-        self.run_examples("yard")
-
-    def test_the_examples_of_order(self):
-        self.run_examples("order")
+    def test_there_are_examples(self):
+        counts = {"dyadic": 8, "yard": 12, "order": 13, "forms": 15, "sums": 16, "values": 18, "walls": 9, "heat": 18,
+                  "heaps": 4, "hedge": 4, "floor": 3}
+        self.assertEqual({name: len(steps(text)) for name, text in EXAMPLES.items()}, counts)
 
 
 class InterfaceTest(unittest.TestCase):
@@ -130,7 +301,10 @@ class InterfaceTest(unittest.TestCase):
             self.assertEqual(getattr(module(name), class_name).__module__, "sumsplay." + name)
         for error in ERRORS:
             self.assertEqual(getattr(module("errors"), error).__module__, "sumsplay.errors")
-        self.assertEqual(module("dyadic").simplest_between.__module__, "sumsplay.dyadic")
+        for (name, function), arguments in FUNCTIONS.items():
+            told = getattr(module(name), function)
+            self.assertEqual(told.__module__, "sumsplay." + name)
+            self.assertEqual(list(inspect.signature(told).parameters), arguments)
 
     def test_each_method_stands_in_its_class_with_its_arguments(self):
         for (name, class_name), methods in CLASSES.items():
@@ -173,6 +347,46 @@ class InterfaceTest(unittest.TestCase):
         self.assertIs(order.can_win(side="left", game=one), True)
         self.assertEqual(order.winning(side="left", game=one), [0])
         self.assertEqual(order.outcome(game=one), "left")
+
+    def test_arguments_of_games_may_be_passed_by_their_names(self):
+        order = module("order").Order(module("yard").Yard())
+        forms = module("forms").Forms(order=order)
+        one = forms.yard.game([0], [])
+        two = forms.yard.game([0, one], [])
+        self.assertEqual(forms.steps(game=two), [("drop", "left", 0)])
+        self.assertEqual(forms.taken(step=("drop", "left", 0), game=two), forms.simplest(game=two))
+        self.assertIs(forms.is_simplest(game=two), False)
+        sums = module("sums").Sums(forms=forms)
+        self.assertEqual((sums.plus(other=0, one=one), sums.minus(other=0, one=one)), (one, one))
+        self.assertEqual((sums.total(games=[one]), sums.plain(games=[one])), (one, one))
+        self.assertEqual(sums.copies(count=1, game=one), one)
+        self.assertIsNone(sums.company(other=one, one=one))
+        values = module("values").Values(sums=sums)
+        self.assertEqual(values.number(dyadic=module("dyadic").Dyadic(1)), one)
+        self.assertEqual(values.number_of(game=one).text(), "1")
+        self.assertEqual(values.heap_of(game=values.heap(size=3)), 3)
+        self.assertEqual(values.up(size=1, count=0), values.heap(1))
+        self.assertEqual((values.left_stop(game=one).text(), values.right_stop(game=one).text()), ("1", "1"))
+        self.assertIs(values.is_small(game=one), False)
+        heat = module("heat").Heat(worth=values)
+        self.assertEqual((len(heat.walls(game=one)), heat.heat(game=one), heat.mean(game=one).text()), (2, None, "1"))
+        self.assertEqual(heat.cooled(heat=module("dyadic").Dyadic(2), game=one), one)
+
+    def test_arguments_of_walls_and_boards_may_be_passed_by_their_names(self):
+        Dyadic, walls = module("dyadic").Dyadic, module("walls")
+        wall = walls.Wall(slope=1, points=[(Dyadic(0), Dyadic(0))])
+        self.assertEqual((wall.at(heat=Dyadic(3)).text(), wall.slope_at(heat=Dyadic(3))), ("3", 1))
+        self.assertEqual((wall.tilted(slope=-1).slope, wall.cut(heat=Dyadic(3)).slope), (0, 0))
+        self.assertEqual((walls.highest(walls=[wall]).slope, walls.lowest(walls=[wall]).slope), (1, 1))
+        heaps = module("heaps").Heaps(sizes=[1])
+        hedge = module("hedge").Hedge(edges=[(0, 1, "red")])
+        floor = module("floor").Floor(rows=[".."])
+        self.assertEqual([len(board.moves(side="right")) for board in (heaps, hedge, floor)], [1, 1, 1])
+
+    def test_the_size_of_a_heap_beside_ups_is_0_if_it_is_left_out(self):
+        signature = inspect.signature(vars(module("values").Values)["up"])
+        self.assertEqual(signature.parameters["size"].default, 0)
+        self.assertIs(signature.parameters["count"].default, inspect.Parameter.empty)
 
     def test_the_power_is_0_if_it_is_left_out(self):
         signature = inspect.signature(vars(module("dyadic").Dyadic)["__init__"])
