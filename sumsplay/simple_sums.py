@@ -6,12 +6,15 @@ from sumsplay.worked import work_out
 
 
 class SimpleSums:
-    """Sums of simplest forms (point 5.5), in the yard in which a SimpleForms object keeps these."""
+    """Sums of simplest forms (point 5.5), in the yard in which these stand.
 
-    def __init__(self, simple):
-        self._simple = simple
-        self._own = simple.own
-        self._dyads = Dyads(simple.own)
+    `reduced(lefts, rights)` tells the simplest form of the game with these options, which are simplest forms.
+    """
+
+    def __init__(self, yard, reduced):
+        self._yard = yard
+        self._reduced = reduced
+        self._dyads = Dyads(yard)
         # From pairs of forms, the one with the lesser number first, to the simplest forms of their sums.
         self._sums = {}
 
@@ -23,8 +26,8 @@ class SimpleSums:
             told = self._dyads.number_of(form)
             if told is not None:
                 number = number + told
-            elif self._own.turned(form) in others:
-                others.remove(self._own.turned(form))
+            elif self._yard.turned(form) in others:
+                others.remove(self._yard.turned(form))
             else:
                 others.append(form)
         # Equal forms stand side by side, so that their sums are worked out once.
@@ -53,7 +56,7 @@ class SimpleSums:
         first, second = self._dyads.number_of(one), self._dyads.number_of(other)
         if first is not None and second is not None:
             return self._dyads.form(first + second)
-        return 0 if self._own.turned(one) == other else None
+        return 0 if self._yard.turned(one) == other else None
 
     def _options(self, pair):
         """The keys of the left and the right options of a sum."""
@@ -61,9 +64,9 @@ class SimpleSums:
         for one, other in (pair, (pair[1], pair[0])):
             # A number need not be moved in where it lies beside a game that is no number: that is never better.
             if self._dyads.number_of(one) is None:
-                lefts.extend([self._pair(option, other) for option in self._own.lefts(one)])
-                rights.extend([self._pair(option, other) for option in self._own.rights(one)])
+                lefts.extend([self._pair(option, other) for option in self._yard.lefts(one)])
+                rights.extend([self._pair(option, other) for option in self._yard.rights(one)])
         return lefts, rights
 
     def _make(self, pair, lefts, rights):
-        return self._simple.reduced(lefts, rights)
+        return self._reduced(lefts, rights)

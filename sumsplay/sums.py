@@ -1,12 +1,13 @@
 """Sums of games, and games that part two others."""
 
 from sumsplay.errors import BadValue
-from sumsplay.sides import other_side
-from sumsplay.simple_sums import SimpleSums
+from sumsplay.sides import SIDES
 from sumsplay.whole import is_whole
 from sumsplay.worked import work_out
 
 MOST_COPIES = 64
+# Two sums with more pairs of followers than this are added part by part.
+MANY_PAIRS = 100000
 
 
 class Sums:
@@ -16,11 +17,8 @@ class Sums:
         self._forms = forms
         self._yard = forms.yard
         self._simple = forms.order.simple
-        self._simple_sums = SimpleSums(self._simple)
-        # From games to the parts that they are known to be the sum of, an ascending tuple, and back. So the sum
-        # of two sums hangs on the parts of both: many pairs of their followers have the same parts together.
-        self._parts = {0: ()}
-        self._totals = {(): 0}
+        # From pairs of games, the one with the lesser number first, to the games that are their sums.
+        self._sums = {}
 
     @property
     def forms(self):
@@ -38,25 +36,36 @@ class Sums:
 
     def total(self, games):
         """The number of the sum of a list of games (point 5.1)."""
-        key = self._key(self._all_parts(games))
-        return work_out(self._totals, key, self._options, self._make)
+        self._check(games)
+        total = 0
+        # Copies of a game stand side by side, so that their sums are worked out once.
+        for game in sorted(games):
+            if self._are_great(total, game):
+                total = self._in_parts(total, game)
+            else:
+                total = self._added(total, game)
+        return total
 
     def minus(self, one, other):
         """The number of the first game less the other one (point 5.2)."""
-        return self.total([one, self._turn(other)])
+        self._check([one, other])
+        return self.total([one, self._turned_game(other)])
 
     def copies(self, game, count):
         """The number of the game that is some copies of a game (point 5.2)."""
         if not is_whole(count, -MOST_COPIES, MOST_COPIES):
             raise BadValue("the count is not an integer from -64 to 64")
-        self._yard.check(game)
-        copied = game if count >= 0 else self._turn(game)
+        self._check([game])
+        copied = game if count >= 0 else self._turned_game(game)
         return self.total([copied] * abs(count))
 
     def plain(self, games):
         """The number of the simplest form of the sum of a list of games."""
-        forms = [self._simple.form(part) for part in self._all_parts(games)]
-        return self._forms.placed(self._simple_sums.total(forms))
+        self._check(games)
+        forms = []
+        for game in games:
+            forms.extend([self._simple.form(part) for part in self._simple.parts(game)])
+        return self._forms.placed(self._simple.total(forms))
 
     def company(self, one, other):
         """The number of a game that parts two games (point 5.6), or None if they are alike."""
@@ -70,68 +79,61 @@ class Sums:
         lower = first if self._yard.height(first) <= self._yard.height(second) else second
         return self._yard.turned(lower)
 
-    def _all_parts(self, games):
-        """The parts of the sum of a list of games."""
-        parts = []
+    def _check(self, games):
+        """Raises Unknown if one of these is not the number of a game of the yard."""
         for game in games:
             self._yard.check(game)
-            parts.extend(self._parts_of(game))
-        return parts
 
-    def _parts_of(self, game):
-        """The parts of a game, as far as they are known: a sum has several, any other game is its only part."""
-        if game not in self._parts:
-            self._parts[game] = self._units(game)
-        return self._parts[game]
-
-    def _units(self, game):
-        """The parts of the form of an integer, which are as many forms of 1 or -1, or else the game itself."""
-        side = "left" if self._yard.lefts(game) else "right"
-        unit = below = game
-        count = 0
-        while below != 0:
-            options = self._yard.options(below, side)
-            if len(options) != 1 or self._yard.options(below, other_side(side)):
-                return (game,)
-            unit, below = below, options[0]
-            count = count + 1
-        return (unit,) * count
-
-    def _turn(self, game):
+    def _turned_game(self, game):
         """The number of the turned game. The parts of a sum that is turned are the turned parts."""
         turned = self._yard.turned(game)
-        self._make_known(turned, self._key([self._yard.turned(part) for part in self._parts_of(game)]))
+        parts = self._simple.parts(game)
+        if len(parts) > 1:
+            self._simple.know_sum(turned, tuple([self._yard.turned(part) for part in parts]))
         return turned
 
-    def _key(self, parts):
-        """The key of the sum of some parts."""
-        key = tuple(sorted(parts))
-        if len(key) == 1:
-            self._totals[key] = key[0]
-        return key
+    def _are_great(self, one, other):
+        """Whether two games that were not added yet are sums with too many pairs of followers."""
+        if self._pair(one, other) in self._sums:
+            return False
+        if len(self._simple.parts(one)) == 1 or len(self._simple.parts(other)) == 1:
+            return False
+        return len(self._yard.followers(one)) * len(self._yard.followers(other)) > MANY_PAIRS
 
-    def _options(self, parts):
-        """The keys of the left and the right options of the sum of some parts."""
-        lefts, rights = [], []
-        for at, part in enumerate(parts):
-            if at == 0 or parts[at - 1] != part:
-                rest = parts[:at] + parts[at + 1:]
-                lefts.extend([self._moved(rest, option) for option in self._yard.lefts(part)])
-                rights.extend([self._moved(rest, option) for option in self._yard.rights(part)])
-        return lefts, rights
+    def _in_parts(self, one, other):
+        """The sum of two sums, made of the parts of both, one after the other.
 
-    def _moved(self, rest, option):
-        """The key of the sum of some parts and a game."""
-        return self._key(rest + self._parts_of(option))
+        Many pairs of followers of two sums have the same sum. Each step adds a part that has few followers.
+        """
+        total = 0
+        for part in sorted(self._simple.parts(one) + self._simple.parts(other)):
+            total = self._added(total, part)
+        self._sums[self._pair(one, other)] = total
+        return total
 
-    def _make(self, parts, lefts, rights):
-        """The game with these options, which is the sum of some parts."""
+    def _added(self, one, other):
+        """The sum of two games, worked out pair by pair of their followers."""
+        return work_out(self._sums, self._pair(one, other), self._options, self._make)
+
+    def _pair(self, one, other):
+        """The key of the sum of two games. It keeps the sum if one of them is 0."""
+        pair = (one, other) if one < other else (other, one)
+        if pair[0] == 0:
+            self._sums[pair] = pair[1]
+        return pair
+
+    def _options(self, pair):
+        """The keys of the left and the right options of the sum of two games."""
+        one, other = pair
+        sides = []
+        for side in SIDES:
+            keys = [self._pair(option, other) for option in self._yard.options(one, side)]
+            keys.extend([self._pair(one, option) for option in self._yard.options(other, side)])
+            sides.append(keys)
+        return sides[0], sides[1]
+
+    def _make(self, pair, lefts, rights):
+        """The game with these options, which is the sum of a pair of games."""
         game = self._yard.game(lefts, rights)
-        self._make_known(game, parts)
+        self._simple.know_sum(game, pair)
         return game
-
-    def _make_known(self, game, parts):
-        """Keeps that a game is the sum of these parts, unless it is known to be a sum."""
-        if len(self._parts_of(game)) == 1:
-            self._parts[game] = parts
-        self._totals[parts] = game

@@ -22,6 +22,11 @@ def new_values():
     return Values(Sums(Forms(Order(Yard()))))
 
 
+def forms_alone(yard):
+    """A Forms object that was not told which games of the yard were made as sums."""
+    return Forms(Order(yard))
+
+
 def fraction(dyadic):
     """The number that a Dyadic is."""
     return Fraction(dyadic.top, 2 ** dyadic.power)

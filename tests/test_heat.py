@@ -14,7 +14,7 @@ from sumsplay.sums import Sums
 from sumsplay.values import Values
 from sumsplay.walls import Wall, highest, lowest
 from sumsplay.yard import Yard
-from tests.anew import Anew, Warm, dyadic, form, fraction, new_values, numbers_of_age
+from tests.anew import Anew, Warm, dyadic, form, forms_alone, fraction, new_values, numbers_of_age
 from tests.worked import (
     heap_games, ladder_games, low_games, mixed_games, row_games, soon, tile_games, unknown_numbers, zigzag_games)
 
@@ -233,7 +233,7 @@ class CooledTest(unittest.TestCase):
         heat = new_heat()
         yard = heat.worth.yard
         chance = random.Random(10)
-        unlike = 0
+        unlike, alone = 0, forms_alone(yard)
         for game in some_games(yard, 11):
             own_heat = heat.heat(game)
             some = [Fraction(0), Fraction(1, 4), Fraction(1), chance.choice(HEATS)]
@@ -245,7 +245,7 @@ class CooledTest(unittest.TestCase):
                 self.assertIs(type(told_game), int)
                 if yard.height(game) <= 4 and temperature.denominator <= 4:
                     expected = self.cooled_anew(heat, game, temperature)
-                    self.assertEqual(told_game, heat.worth.forms.simplest(expected))
+                    self.assertEqual(told_game, alone.simplest(expected))
                     unlike += told_game != heat.worth.forms.simplest(game)
                 self.assertIs(heat.worth.forms.is_simplest(told_game), True)
         self.assertGreater(unlike, 50)

@@ -9,7 +9,7 @@ from sumsplay.forms import Forms
 from sumsplay.order import Order
 from sumsplay.sums import Sums
 from sumsplay.yard import Yard
-from tests.anew import SIDES, Anew
+from tests.anew import SIDES, Anew, forms_alone
 from tests.worked import (
     beside, heap_games, ladder_games, low_games, mixed_games, odd_things, row_games, shape, soon, unknown_numbers)
 
@@ -234,16 +234,17 @@ class PlainTest(unittest.TestCase):
         for asked_first in (True, False):
             sums = new_sums()
             yard, chance = sums.yard, random.Random(11)
-            games = some_games(yard, 12)
+            games, alone = some_games(yard, 12), forms_alone(yard)
             for _ in range(250):
                 some = [chance.choice(games) for _ in range(chance.randint(0, 3))]
                 passed = list(some)
                 if asked_first:
-                    expected = sums.forms.simplest(sums.total(some))
+                    expected = alone.simplest(sums.total(some))
                     self.assertEqual(sums.plain(passed), expected)
                 else:
                     told = sums.plain(passed)
-                    self.assertEqual(told, sums.forms.simplest(sums.total(some)))
+                    self.assertEqual(told, alone.simplest(sums.total(some)))
+                self.assertEqual(sums.forms.simplest(sums.total(some)), sums.plain(some))
                 self.assertEqual(passed, some)
                 self.assertIs(type(sums.plain(some)), int)
 
@@ -264,11 +265,13 @@ class PlainTest(unittest.TestCase):
         quarter = yard.game([0], [half])
         numbers = [one, half, quarter, yard.turned(one), yard.turned(quarter), yard.game([one], [yard.game([one], [])])]
         hot = [yard.game([first], [second]) for first in numbers for second in numbers]
-        games = numbers + hot + some_games(yard, 16)
+        games, alone = numbers + hot + some_games(yard, 16), forms_alone(yard)
         for _ in range(300):
             some = [chance.choice(numbers), chance.choice(games), chance.choice(hot)]
             told = sums.plain(some)
+            self.assertEqual(told, alone.simplest(sums.total(some)))
             self.assertEqual(told, sums.forms.simplest(sums.total(some)))
+            self.assertIs(alone.is_simplest(told), True)
             self.assertIs(sums.forms.is_simplest(told), True)
 
     def test_numbers_that_are_new_beside_sums_that_were_told(self):
@@ -278,7 +281,7 @@ class PlainTest(unittest.TestCase):
         threat = yard.game([row[8]], [row[2]])
         game = yard.game([threat, row[4]], [yard.turned(row[7])])
         for number in (yard.game([0], [yard.game([0], [row[1]])]), yard.game([row[1]], [row[2]])):
-            expected = [sums.forms.simplest(sums.total([one, number])) for one in (threat, game)]
+            expected = [forms_alone(yard).simplest(sums.total([one, number])) for one in (threat, game)]
             fresh = Sums(Forms(Order(yard)))
             self.assertEqual([fresh.plain([one, number]) for one in (threat, game)], expected)
             self.assertEqual(len(yard.lefts(expected[1])), 2)
@@ -293,13 +296,14 @@ class PlainTest(unittest.TestCase):
 
     def test_games_of_a_sum_may_be_replaced_by_their_simplest_forms(self):
         sums = new_sums()
-        games = some_games(sums.yard, 18)
+        games, alone = some_games(sums.yard, 18), forms_alone(sums.yard)
         simplest = sums.forms.simplest
         for one, other in itertools.product(games, repeat=2):
             told = sums.plain([one, other])
             self.assertEqual(sums.plain([simplest(one), other]), told)
             self.assertEqual(sums.plain([simplest(one), simplest(other)]), told)
             self.assertEqual(simplest(sums.plus(one, simplest(other))), told)
+            self.assertEqual(alone.simplest(sums.plus(one, simplest(other))), told)
 
     def test_what_the_same_game_is_added_to(self):
         sums = new_sums()
@@ -316,10 +320,11 @@ class LawsTest(unittest.TestCase):
     def test_the_order_of_sums(self):
         sums = new_sums()
         games = some_games(sums.yard, 20, 14)
-        order = sums.forms.order
+        order, alone = sums.forms.order, Order(sums.yard)
         for one, other, third in itertools.product(games, repeat=3):
-            least = order.at_least(sums.plus(one, third), sums.plus(other, third))
-            self.assertIs(least, order.at_least(one, other))
+            for some in (order, alone):
+                least = some.at_least(sums.plus(one, third), sums.plus(other, third))
+                self.assertIs(least, order.at_least(one, other))
 
     def test_sums_of_alike_games(self):
         sums = new_sums()
@@ -335,11 +340,12 @@ class LawsTest(unittest.TestCase):
     def test_a_game_less_another_one(self):
         sums = new_sums()
         games = some_games(sums.yard, 22)
-        order = sums.forms.order
-        for one in games:
-            self.assertIs(order.alike(sums.minus(one, one), 0), True)
-            for other in games:
-                self.assertIs(order.at_least(sums.minus(one, other), 0), order.at_least(one, other))
+        for order in (sums.forms.order, Order(sums.yard)):
+            for one in games:
+                self.assertIs(order.alike(sums.minus(one, one), 0), True)
+                for other in games:
+                    self.assertIs(order.at_least(sums.minus(one, other), 0), order.at_least(one, other))
+                    self.assertIs(order.alike(sums.minus(one, other), 0), order.alike(one, other))
 
 
 class CompanyTest(unittest.TestCase):
@@ -347,7 +353,7 @@ class CompanyTest(unittest.TestCase):
 
     def check_pair(self, sums, one, other):
         told = sums.company(one, other)
-        order = sums.forms.order
+        order = self.order
         if order.alike(one, other):
             self.assertIsNone(told)
         else:
@@ -358,12 +364,14 @@ class CompanyTest(unittest.TestCase):
 
     def test_all_pairs_of_small_games(self):
         sums = new_sums()
+        self.order = Order(sums.yard)
         games = some_games(sums.yard, 23, 60)
         for one, other in itertools.product(games, repeat=2):
             self.check_pair(sums, one, other)
 
     def test_games_of_the_same_outcome(self):
         sums = new_sums()
+        self.order = Order(sums.yard)
         yard = sums.yard
         one, star = yard.game([0], []), yard.game([0], [0])
         two = yard.game([0, star], [0, star])
@@ -498,7 +506,7 @@ class GreatGamesTest(unittest.TestCase):
         yard = sums.yard
         one = yard.game([0], [])
         switch = yard.game([one], [yard.turned(one)])
-        with soon():
+        with soon(20):
             half = sums.copies(switch, 25)
             other = sums.minus(0, half)
             many = sums.plus(half, other)
@@ -506,6 +514,35 @@ class GreatGamesTest(unittest.TestCase):
             self.assertEqual(sums.minus(half, half), many)
             self.assertEqual(sums.plain([half, half]), 0)
             self.assertEqual(sums.plain([half, half, half]), sums.plain([switch]))
+
+    def test_sums_that_were_made_by_hand(self):
+        sums = new_sums()
+        yard = sums.yard
+        stars = [0]
+        for _ in range(100):
+            stars.append(yard.game([stars[-1]], [stars[-1]]))
+        with soon(20):
+            self.assertEqual(sums.plus(stars[50], stars[50]), stars[100])
+            self.assertEqual(sums.copies(stars[10], 10), stars[100])
+            self.assertEqual(sums.copies(stars[4], -25), stars[100])
+            self.assertEqual(sums.total([stars[30], stars[1], stars[40], stars[29]]), stars[100])
+            self.assertEqual(Sums(sums.forms).copies(stars[20], 5), stars[100])
+            self.assertEqual(sums.forms.simplest(sums.minus(stars[51], stars[26])), stars[1])
+
+    def test_sums_of_games_that_another_object_made(self):
+        first = new_sums()
+        yard = first.yard
+        one = yard.game([0], [])
+        switch = yard.game([one], [yard.turned(one)])
+        many = [first.copies(switch, count) for count in range(25)]
+        with soon(20):
+            for count, times in ((2, 12), (3, 8), (6, 4), (12, 2)):
+                sums = Sums(Forms(Order(yard)))
+                self.assertEqual(sums.copies(many[count], times), many[24])
+                self.assertEqual(sums.plain([many[count]] * times), 0)
+            sums = Sums(Forms(Order(yard)))
+            self.assertEqual(sums.minus(many[10], many[14]), many[24])
+            self.assertEqual(sums.total([many[1], many[9], many[2], many[5], many[7]]), many[24])
 
     def check_company(self, sums, one, other):
         told = sums.company(one, other)
@@ -527,6 +564,7 @@ class GreatGamesTest(unittest.TestCase):
             total = sums.total([heaps[33], heaps[20], heaps[40]])
             self.assertEqual(sums.plain([heaps[33], heaps[20], heaps[40]]), heaps[33 ^ 20 ^ 40])
             self.assertEqual(sums.forms.simplest(total), heaps[33 ^ 20 ^ 40])
+            self.assertEqual(forms_alone(yard).simplest(total), heaps[33 ^ 20 ^ 40])
             self.check_company(sums, total, heaps[1])
 
     def test_switches_of_many_sizes(self):
@@ -538,7 +576,7 @@ class GreatGamesTest(unittest.TestCase):
             total = sums.total(switches)
             self.assertEqual(yard.height(total), 35)
             self.assertGreater(len(yard.followers(total)), 10000)
-            self.assertEqual(sums.forms.simplest(total), sums.plain(switches))
+            self.assertEqual(forms_alone(yard).simplest(total), sums.plain(switches))
             self.assertIsNone(sums.company(total, sums.plain(switches)))
 
     def test_ladders(self):
@@ -549,7 +587,7 @@ class GreatGamesTest(unittest.TestCase):
             total = sums.plus(games[50], games[49])
             self.assertEqual(yard.height(total), 99)
             self.assertEqual(sums.plus(games[49], games[50]), total)
-            self.assertEqual(sums.plain([games[50], games[49]]), sums.forms.simplest(total))
+            self.assertEqual(sums.plain([games[50], games[49]]), forms_alone(yard).simplest(total))
 
     def test_mixed_games(self):
         sums = new_sums()
@@ -559,6 +597,7 @@ class GreatGamesTest(unittest.TestCase):
             for _ in range(3):
                 some = chance.sample(games, 3)
                 total = sums.total(some)
+                self.assertEqual(forms_alone(yard).simplest(total), sums.plain(some))
                 self.assertEqual(sums.forms.simplest(total), sums.plain(some))
                 self.assertEqual(yard.height(total), sum(map(yard.height, some)))
                 self.check_company(sums, total, yard.game([total], []))

@@ -12,7 +12,7 @@ from sumsplay.order import Order
 from sumsplay.sums import Sums
 from sumsplay.values import Values
 from sumsplay.yard import Yard
-from tests.anew import SIDES, Anew, age, dyadic, form, fraction, new_values, numbers_of_age
+from tests.anew import SIDES, Anew, age, dyadic, form, forms_alone, fraction, new_values, numbers_of_age
 from tests.worked import (
     heap_games, ladder_games, low_games, mixed_games, odd_things, row_games, shape, soon, tile_games, unknown_numbers,
     zigzag_games)
@@ -292,13 +292,13 @@ class UpTest(unittest.TestCase):
     def test_up_by_the_words_of_the_point(self):
         values = new_values()
         yard, sums = values.yard, values.sums
-        up = yard.game([0], [values.heap(1)])
+        up, alone = yard.game([0], [values.heap(1)]), forms_alone(yard)
         self.assertEqual(values.up(1), up)
         for count in range(-12, 13):
             for size in range(4):
                 told = values.up(count, size)
                 expected = sums.plus(sums.copies(up, count), values.heap(size))
-                self.assertEqual(told, values.forms.simplest(expected))
+                self.assertEqual(told, alone.simplest(expected))
                 self.assertIs(type(told), int)
             self.assertEqual(values.up(count), values.up(count, 0))
 
