@@ -205,6 +205,32 @@ True
 >>> [part.value() for part in Floor(["..#.", ".###", "#..#"]).parts()]
 [('floor', ('..', '.#')), ('floor', ('..',))]
 ''',
+    "boards": '''
+>>> from sumsplay.boards import board_of, game_of
+>>> from sumsplay.yard import Yard
+>>> yard = Yard()
+>>> one = yard.game([0], [])
+>>> other = yard.game([], [0])
+>>> game_of(yard, board_of(("frogs", "T.F"))) == yard.game([yard.game([], [one])], [yard.game([other], [])])
+True
+''',
+    "texts": '''
+>>> from sumsplay.forms import Forms
+>>> from sumsplay.order import Order
+>>> from sumsplay.sums import Sums
+>>> from sumsplay.texts import read_game, write_game
+>>> from sumsplay.values import Values
+>>> from sumsplay.yard import Yard
+>>> values = Values(Sums(Forms(Order(Yard()))))
+>>> write_game(values, read_game(values, "{1|-1}-{1|-1}+3/4"))
+'3/4'
+>>> write_game(values, read_game(values, "*1+*3"))
+'*2'
+>>> write_game(values, read_game(values, "{^,0|*1,*1+1}"))
+'{{0|*1}|*1}'
+>>> read_game(values, "2/4")
+raises BadText
+''',
 }
 
 # Class by class, the methods and their arguments. Properties are listed apart.
@@ -244,15 +270,35 @@ CLASSES = {
     ("heaps", "Heaps"): {"__init__": ["sizes"], "moves": ["side"], "value": [], "parts": []},
     ("hedge", "Hedge"): {"__init__": ["edges"], "moves": ["side"], "value": [], "parts": []},
     ("floor", "Floor"): {"__init__": ["rows"], "moves": ["side"], "value": [], "parts": []},
+    ("frogs", "Frogs"): {"__init__": ["line"], "moves": ["side"], "value": [], "parts": []},
+    ("cake", "Cakes"): {"__init__": ["cakes"], "moves": ["side"], "value": [], "parts": []},
+    ("table", "Table"): {"__init__": ["rows", "place"], "moves": ["side"], "value": [], "parts": []},
+    ("meeting", "Meeting"): {
+        "__init__": ["boards"], "boards": [], "moves": ["side"], "moved": ["place", "board"], "value": [],
+    },
+    ("plans", "Plans"): {
+        "__init__": ["worth"], "game": ["meeting"], "winner": ["meeting", "first"], "plan": ["meeting", "side"],
+        "judge": ["meeting", "side", "first"],
+    },
+    ("match", "Match"): {
+        "__init__": ["meeting", "first"], "moves": [], "play": ["index"], "back": [], "winner": [], "record": [],
+        "value": [],
+    },
 }
 PROPERTIES = {
     ("dyadic", "Dyadic"): ["top", "power"], ("yard", "Yard"): ["size"], ("order", "Order"): ["yard"],
     ("forms", "Forms"): ["yard"], ("sums", "Sums"): ["yard"], ("values", "Values"): ["forms", "yard"],
-    ("walls", "Wall"): ["slope"],
+    ("walls", "Wall"): ["slope"], ("match", "Match"): ["turn", "meeting"],
 }
+# The static methods, each with its argument.
+STATICS = {("dyadic", "Dyadic", "from_text"): "text", ("meeting", "Meeting", "from_value"): "value",
+           ("match", "Match", "from_value"): "value"}
 # The functions of the interface, each with its file and its arguments.
 FUNCTIONS = {
     ("dyadic", "simplest_between"): ["low", "high"], ("walls", "highest"): ["walls"], ("walls", "lowest"): ["walls"],
+    ("boards", "is_board"): ["thing"], ("boards", "board_of"): ["value"], ("boards", "game_of"): ["yard", "board"],
+    ("boards", "game_by_parts"): ["sums", "board"], ("texts", "write_game"): ["values", "game"],
+    ("texts", "read_game"): ["values", "text"],
 }
 ERRORS = ("PlayError", "BadValue", "BadText", "Unknown", "NoMove")
 
@@ -291,7 +337,7 @@ class ExamplesTest(unittest.TestCase):
 
     def test_there_are_examples(self):
         counts = {"dyadic": 8, "yard": 12, "order": 13, "forms": 15, "sums": 16, "values": 18, "walls": 9, "heat": 18,
-                  "heaps": 4, "hedge": 4, "floor": 3}
+                  "heaps": 4, "hedge": 4, "floor": 3, "boards": 6, "texts": 11}
         self.assertEqual({name: len(steps(text)) for name, text in EXAMPLES.items()}, counts)
 
 
@@ -315,13 +361,14 @@ class InterfaceTest(unittest.TestCase):
                 if arguments is not None:
                     self.assertEqual(list(inspect.signature(body[method]).parameters)[1:], arguments, method)
 
-    def test_properties_and_the_static_method_stand_in_their_classes(self):
+    def test_properties_and_static_methods_stand_in_their_classes(self):
         for (name, class_name), names in PROPERTIES.items():
             for word in names:
                 self.assertIsInstance(vars(getattr(module(name), class_name))[word], property)
-        static = vars(module("dyadic").Dyadic)["from_text"]
-        self.assertIsInstance(static, staticmethod)
-        self.assertEqual(list(inspect.signature(static.__func__).parameters), ["text"])
+        for (name, class_name, method), argument in STATICS.items():
+            static = vars(getattr(module(name), class_name))[method]
+            self.assertIsInstance(static, staticmethod)
+            self.assertEqual(list(inspect.signature(static.__func__).parameters), [argument])
 
     def test_arguments_may_be_passed_by_their_names(self):
         Dyadic = module("dyadic").Dyadic
@@ -382,6 +429,47 @@ class InterfaceTest(unittest.TestCase):
         hedge = module("hedge").Hedge(edges=[(0, 1, "red")])
         floor = module("floor").Floor(rows=[".."])
         self.assertEqual([len(board.moves(side="right")) for board in (heaps, hedge, floor)], [1, 1, 1])
+
+    def test_arguments_of_further_boards_may_be_passed_by_their_names(self):
+        frogs = module("frogs").Frogs(line="T.F")
+        cakes = module("cake").Cakes(cakes=[(2, 2)])
+        table = module("table").Table(place=0, rows=[((1,), (1,)), ((), ())])
+        self.assertEqual([len(board.moves(side="left")) for board in (frogs, cakes, table)], [1, 1, 1])
+        boards = module("boards")
+        self.assertIs(boards.is_board(thing=frogs), True)
+        self.assertEqual(boards.board_of(value=frogs.value()).value(), ("frogs", "T.F"))
+        sums = module("sums").Sums(module("forms").Forms(module("order").Order(module("yard").Yard())))
+        star = sums.yard.game([0], [0])
+        self.assertEqual((boards.game_of(board=table, yard=sums.yard), boards.game_by_parts(board=table, sums=sums)), (star, star))
+
+    def test_arguments_of_texts_and_meetings_may_be_passed_by_their_names(self):
+        sums = module("sums").Sums(module("forms").Forms(module("order").Order(module("yard").Yard())))
+        values = module("values").Values(sums)
+        texts, star = module("texts"), values.heap(1)
+        self.assertEqual(texts.write_game(game=star, values=values), "*1")
+        self.assertEqual(texts.read_game(text="*1", values=values), star)
+        Meeting = module("meeting").Meeting
+        meeting = Meeting(boards=[module("heaps").Heaps([1])])
+        (place, board), = meeting.moves(side="left")
+        self.assertEqual(meeting.moved(board=board, place=place).value(), (("heaps", (0,)),))
+        self.assertEqual(Meeting.from_value(value=meeting.value()).value(), meeting.value())
+        plans = module("plans").Plans(worth=values)
+        self.assertEqual(plans.game(meeting=meeting), star)
+        self.assertEqual(plans.winner(first="right", meeting=meeting), "right")
+        self.assertEqual(plans.plan(side="right", meeting=meeting), 0)
+        self.assertIs(plans.judge(first="right", side="left", meeting=meeting), False)
+        match = module("match").Match(first="right", meeting=meeting)
+        match.play(index=0)
+        self.assertEqual((match.turn, match.meeting.value(), match.winner()), ("left", (("heaps", (0,)),), "right"))
+
+    def test_fields_are_set_on_each_object(self):
+        sums = module("sums").Sums(module("forms").Forms(module("order").Order(module("yard").Yard())))
+        values = module("values").Values(sums)
+        for name, class_name in (("plans", "Plans"), ("heat", "Heat")):
+            told = getattr(module(name), class_name)(values)
+            self.assertIs(vars(told)["worth"], values)
+        self.assertIs(vars(values)["sums"], sums)
+        self.assertIs(vars(sums.forms)["order"], sums.forms.order)
 
     def test_the_size_of_a_heap_beside_ups_is_0_if_it_is_left_out(self):
         signature = inspect.signature(vars(module("values").Values)["up"])
